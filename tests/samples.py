@@ -1,6 +1,7 @@
 """Machines and odd objects that several tests use."""
 
 from knownlate.machines import Machine
+from knownlate.watches import Watch
 
 TANK_STEPS = [(0, "fill", 1), (0, "leak", 2), (1, "drip", 0), (2, "fill", 3), (3, "alarm", 3)]
 DEPTH = 100000
@@ -73,7 +74,26 @@ def odd_objects():
         zip(), enumerate([]), reversed([]), {}.keys(), {}.values(), {}.items(),
         object(), object, int, str, list, Machine, len, lambda: 0, [].append, NotImplemented, Ellipsis,
         ValueError("x"), ValueError, property(), odd_objects, "\u00e9", "\ud800", "\uff41",
+        Watch, Watch(), Watch({"fill": "fill"}), Watch({"a": "a"}),
     ]
+
+
+def no_watches():
+    """Objects of many kinds, also nested very deep; none of them is a watch."""
+    more = [None, 0, 5, "fill", tank(), clock(), Machine, {"fill": "up"}, [Watch()], (Watch(),), {"fill": Watch()}]
+    return [value for value in odd_objects() + odd_rows() + more if not isinstance(value, Watch)]
+
+
+def no_faults():
+    """Objects of many kinds, also nested very deep; none of them is a fault of the tank."""
+    return odd_objects() + odd_rows() + [None, 0, "leak", "holes", "hol", "Hole", " hole", b"hole", ["hole"],
+                                         ("hole",), {"hole": "hole"}, tank()]
+
+
+def no_counts(most):
+    """Objects of many kinds, also nested very deep; none of them is a count from 0 to `most`."""
+    odd = [value for value in odd_objects() if value.__class__ is not int]
+    return odd + odd_rows() + [None, -1, most + 1, most + 10 ** 30, -10 ** 30, True, False, 1.0, "1", tank()]
 
 
 def odd_rows():

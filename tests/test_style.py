@@ -19,6 +19,23 @@ BUILTINS = set("""len range enumerate zip min max sum abs sorted reversed int st
     classmethod Exception ValueError TypeError KeyError IndexError LookupError ZeroDivisionError ArithmeticError
     OverflowError RuntimeError NotImplementedError AttributeError StopIteration NotImplemented""".split())
 BARRED_WORDS = ("type", "typing", "enum", "Enum", "Flag", "Generic", "Protocol", "namedtuple", "dataclass", "overload")
+INTERFACE = {
+    "errors": ["KnowError"],
+    "values": ["is_name", "is_state"],
+    "machines": ["Machine"],
+    "watches": ["Watch", "all_seen", "seeing"],
+    "runs": ["end_of", "faults_in", "sights_of", "steps_behind", "alike", "rows_of", "shortest_to"],
+    "estimates": ["after", "known", "telling", "veil", "is_veil"],
+    "late": ["late", "ranks", "is_ranks", "alike_runs", "is_alike", "endless", "is_endless"],
+}
+METHODS = {
+    "Machine": ["start", "steps", "words", "fault_names", "faults", "states", "beside", "renumbered", "__eq__"],
+    "Watch": ["words", "sights", "copy", "within", "__getitem__", "__setitem__", "__contains__", "__len__", "__bool__",
+              "__eq__", "__iter__", "__or__", "__ror__", "__and__", "__rand__", "__sub__", "__ior__", "__isub__"],
+}
+# What these make is gone over where it stands, and is not kept.
+PASSING = ("zip", "enumerate", "reversed", "items", "keys", "values")
+TAKERS = ("list", "tuple", "dict", "sorted", "sum", "any", "all", "enumerate", "zip", "min", "max")
 BARRED_NODES = (ast.Global, ast.AsyncFunctionDef, ast.AsyncFor, ast.AsyncWith, ast.Await, ast.Import, ast.Set)
 
 
@@ -28,6 +45,13 @@ def files():
 
 def trees():
     return [(path, ast.parse(path.read_text(encoding="utf-8"))) for path in files()]
+
+
+def called(node):
+    """The name of the function or method that a node calls, or None."""
+    if not isinstance(node, ast.Call):
+        return None
+    return getattr(node.func, "id", None) or getattr(node.func, "attr", None)
 
 
 class Files(unittest.TestCase):
@@ -58,11 +82,17 @@ class Files(unittest.TestCase):
                     self.assertLessEqual(node.end_lineno - node.lineno + 1, 40, (path, node.name))
 
     def test_names_of_the_interface_stand_in_their_files(self):
-        for file, names in (("errors", ["KnowError"]), ("values", ["is_name", "is_state"]), ("machines", ["Machine"])):
+        for file, names in INTERFACE.items():
             tree = ast.parse((PACKAGE / (file + ".py")).read_text(encoding="utf-8"))
             found = [node.name for node in tree.body if isinstance(node, (ast.FunctionDef, ast.ClassDef))]
             for name in names:
                 self.assertIn(name, found)
+
+    def test_methods_of_the_interface_stand_in_their_classes(self):
+        found = {node.name: [each.name for each in node.body if isinstance(each, ast.FunctionDef)]
+                 for path, tree in trees() for node in tree.body if isinstance(node, ast.ClassDef)}
+        for name, methods in METHODS.items():
+            self.assertLessEqual(set(methods), set(found[name]))
 
 
 class Uses(unittest.TestCase):
@@ -108,6 +138,60 @@ class Uses(unittest.TestCase):
                 self.assertNotIsInstance(node, (ast.GeneratorExp, ast.Div), path)
                 if isinstance(node, ast.Constant):
                     self.assertNotIsInstance(node.value, (float, complex), path)
+
+    def test_sets_stand_only_in_sorted_and_len(self):
+        for path, tree in trees():
+            for node in ast.walk(tree):
+                inside = node.args if called(node) in ("sorted", "len") else []
+                for child in ast.iter_child_nodes(node):
+                    if isinstance(child, ast.SetComp) or called(child) in ("set", "frozenset"):
+                        self.assertIn(child, inside, (path, child.lineno))
+
+    def test_what_is_gone_over_once_is_not_kept(self):
+        for path, tree in trees():
+            for node in ast.walk(tree):
+                for child in ast.iter_child_nodes(node):
+                    if called(child) in PASSING:
+                        good = isinstance(node, (ast.For, ast.comprehension)) and child is node.iter
+                        self.assertTrue(good or called(node) in TAKERS, (path, child.lineno))
+
+    def test_lists_are_sorted_by_sorted_alone(self):
+        for path, tree in trees():
+            for node in ast.walk(tree):
+                self.assertNotEqual(called(node), "sort", path)
+
+    def test_no_name_of_an_import_or_a_class_is_used_again(self):
+        for path, tree in trees():
+            barred = {alias.name for node in tree.body if isinstance(node, ast.ImportFrom) for alias in node.names}
+            barred |= {node.name for node in tree.body if isinstance(node, ast.ClassDef)}
+            for node in ast.walk(tree):
+                if isinstance(node, ast.Name) and not isinstance(node.ctx, ast.Load):
+                    self.assertNotIn(node.id, barred, (path, node.lineno))
+                elif isinstance(node, ast.arg):
+                    self.assertNotIn(node.arg, barred, (path, node.lineno))
+
+    def test_methods_attributes_and_properties_have_their_own_names(self):
+        plain, properties, attributes = set(), set(), set()
+        for path, tree in trees():
+            for node in ast.walk(tree):
+                for each in node.body if isinstance(node, ast.ClassDef) else []:
+                    if isinstance(each, ast.FunctionDef):
+                        (properties if each.decorator_list else plain).add(each.name)
+                if isinstance(node, ast.Attribute) and isinstance(node.ctx, ast.Store):
+                    attributes.add(node.attr)
+        self.assertEqual([plain & properties, plain & attributes, properties & attributes], [set(), set(), set()])
+
+    def test_strings(self):
+        for path, tree in trees():
+            for node in ast.walk(tree):
+                if isinstance(node, ast.Constant) and isinstance(node.value, str):
+                    self.assertNotIn("%", node.value, (path, node.lineno))
+                    self.assertFalse(node.value.endswith(("._", ".__")), (path, node.lineno))
+
+    def test_one_lambda_in_a_line(self):
+        for path, tree in trees():
+            lines = [node.lineno for node in ast.walk(tree) if isinstance(node, ast.Lambda)]
+            self.assertEqual(len(lines), len(set(lines)), path)
 
     def test_barred_words(self):
         for path, tree in trees():
