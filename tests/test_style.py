@@ -27,6 +27,9 @@ INTERFACE = {
     "runs": ["end_of", "faults_in", "sights_of", "steps_behind", "alike", "rows_of", "shortest_to"],
     "estimates": ["after", "known", "telling", "veil", "is_veil"],
     "late": ["late", "ranks", "is_ranks", "alike_runs", "is_alike", "endless", "is_endless"],
+    "losses": ["with_losses"],
+    "foretold": ["avoiding", "ahead", "untold", "is_untold"],
+    "finer": ["finer", "unlike", "is_unlike", "same_sight"],
 }
 METHODS = {
     "Machine": ["start", "steps", "words", "fault_names", "faults", "states", "beside", "renumbered", "__eq__"],
