@@ -1,4 +1,4 @@
-"""The errors of the arguments that many functions share (points [7], [25], [37] and [38])."""
+"""The errors of the arguments that many functions share (point [7], and the points with a BadCount)."""
 
 from knownlate.errors import BadCount, BadWatch, BadWatches, NoFault
 from knownlate.limits import MOST_WATCHES

@@ -25,3 +25,8 @@ def is_whole(value):
 def is_row(value):
     """Whether any object is a row: a list or a tuple."""
     return isinstance(value, (list, tuple))
+
+
+def is_ascending(values):
+    """Whether each item of a row of numbers, names or tuples of such is less than the next one."""
+    return all([one < other for one, other in zip(values, values[1:])])

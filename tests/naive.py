@@ -262,9 +262,8 @@ def unknown_lengths(machine, watches, fault, most):
     return found
 
 
-def late(machine, watches, fault):
-    """`late` from what is known along all runs: no alike tuples are used."""
-    most = 400
+def late(machine, watches, fault, most=400):
+    """`late` from what is known along all runs: no alike tuples are used. Nothing is `most` or more but None."""
     counts = unknown_lengths(machine, watches, fault, most)
     if most in counts:
         return None

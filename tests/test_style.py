@@ -30,11 +30,17 @@ INTERFACE = {
     "losses": ["with_losses"],
     "foretold": ["avoiding", "ahead", "untold", "is_untold"],
     "finer": ["finer", "unlike", "is_unlike", "same_sight"],
+    "least": ["enough", "least_sets", "cheapest", "is_against"],
+    "asks": ["needed", "tree", "is_tree", "answers", "is_answers", "twins"],
+    "texts": ["machine_text", "read_machine"],
+    "post": ["Post", "Trial"],
 }
 METHODS = {
     "Machine": ["start", "steps", "words", "fault_names", "faults", "states", "beside", "renumbered", "__eq__"],
     "Watch": ["words", "sights", "copy", "within", "__getitem__", "__setitem__", "__contains__", "__len__", "__bool__",
               "__eq__", "__iter__", "__or__", "__ror__", "__and__", "__rand__", "__sub__", "__ior__", "__isub__"],
+    "Post": ["watch", "__getitem__", "__setitem__", "__iter__", "follow", "late", "undo", "trial", "rehearse", "tried"],
+    "Trial": ["__enter__", "__exit__"],
 }
 # What these make is gone over where it stands, and is not kept.
 PASSING = ("zip", "enumerate", "reversed", "items", "keys", "values")
@@ -196,8 +202,25 @@ class Uses(unittest.TestCase):
             lines = [node.lineno for node in ast.walk(tree) if isinstance(node, ast.Lambda)]
             self.assertEqual(len(lines), len(set(lines)), path)
 
+    def test_exits_only_assign_attributes(self):
+        for path, tree in trees():
+            for node in ast.walk(tree):
+                if isinstance(node, ast.FunctionDef) and node.name == "__exit__":
+                    for row in node.body:
+                        self.assertIsInstance(row, ast.Assign, path)
+                        self.assertIsInstance(row.value, ast.Attribute, path)
+
+    def test_functions_around_the_errors_of_python(self):
+        # Only errors of the program are caught.
+        known = {node.name for node in dict(trees())[PACKAGE / "errors.py"].body if isinstance(node, ast.ClassDef)}
+        for path, tree in trees():
+            caught = [node for node in ast.walk(tree) if isinstance(node, ast.ExceptHandler)]
+            self.assertLessEqual({node.type.id for node in caught}, known, path)
+            self.assertEqual(len({node.name for node in caught}), len(caught), path)
+
     def test_barred_words(self):
         for path, tree in trees():
+            self.assertNotRegex(path.read_text(encoding="utf-8"), r"Meta|\(type\)|metaclass=|_wall", path)
             for node in ast.walk(tree):
                 for word in (getattr(node, "id", None), getattr(node, "attr", None), getattr(node, "name", None)):
                     self.assertNotIn(word, BARRED_WORDS, path)
