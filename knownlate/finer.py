@@ -54,8 +54,6 @@ def is_unlike(machine, one, other, thing):
 
 def same_sight(machine, one, other):
     """Whether just the same runs are alike for both watches."""
-    check_watch(one)
-    check_watch(other)
     return finer(machine, one, other) and finer(machine, other, one)
 
 

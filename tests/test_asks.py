@@ -353,7 +353,8 @@ class Answers(Case):
                       [whole, first, second, (((2, ()), [3, ("broken",)]), 1)],
                       [whole, first, second, (((2.0, ()), (3, ("broken",))), 1)],
                       [whole, first, second, ((2, 3), 1)], [whole, first, second, (((2, (), ()), second[0][1]), 1)],
-                      [(2, WHOLE), first, second]):
+                      [(2, WHOLE), first, second], PAPER + [(WHOLE, 0)], PAPER + [(first[0], 0)],
+                      PAPER + [(first[0], -1)], PAPER + [(WHOLE, False)]):
             self.assertIs(self.judge(thing), False, thing)
 
     def test_any_object(self):

@@ -372,8 +372,10 @@ class Judge(Case):
                       [(words, fault, paper), (("go",), fault, paper)], [(fault, words, paper)],
                       [(words, fault, (((0, 2), ()), ((), ())))], [(words, fault, (((0,), ()), ((2,), ())))]):
             self.assertIs(self.judge(thing), False, thing)
-        self.assertIs(self.judge([(words, fault, paper), (("go",), fault, (((0, 2), (1,)), ((3,), ())))],
-                                 costs={**COSTS, "go": 1}), True)
+        # A paper that is right for a word that has no cost.
+        two = [(words, fault, paper), (("go",), fault, (((0, 2), (1,)), ((3,), ())))]
+        self.assertIs(self.judge(two, costs={**COSTS, "go": 1}), True)
+        self.assertIs(self.judge(two), False)
 
     def test_faults_of_the_names_alone(self):
         made = Machine(0, [(0, "a", 0), (0, "b", 0), (0, "c", 0)], {"a": "one", "b": "two"})

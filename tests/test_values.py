@@ -2,7 +2,7 @@
 
 import unittest
 
-from knownlate.values import is_name, is_row, is_state, is_whole
+from knownlate.values import is_ascending, is_name, is_row, is_state, is_whole
 from tests.samples import clock, odd_objects, odd_rows
 
 
@@ -52,6 +52,12 @@ class SharedKinds(unittest.TestCase):
             self.assertIs(is_whole(value), True)
         for value in (True, False, None, 1.0, "1", [1], 1j):
             self.assertIs(is_whole(value), False)
+
+    def test_ascending_rows(self):
+        for value in ([], (), (5,), (1, 2, 10), ["a", "ab", "b"], [(1, ()), (1, ("a",)), (2, ())]):
+            self.assertIs(is_ascending(value), True)
+        for value in ((1, 1), (2, 1), (1, 3, 2), ["b", "ab"], ["a", "a"], [(1, ("a",)), (1, ())]):
+            self.assertIs(is_ascending(value), False)
 
     def test_rows_are_lists_and_tuples(self):
         for value in ([], (), [1], (1,)):
